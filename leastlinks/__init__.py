@@ -1,0 +1,1 @@
+"""Leastlinks: one program from packages in several versions."""

@@ -1,0 +1,289 @@
+"""Registries: packages in sequence, and their releases with the needs of each."""
+
+from leastlinks.errors import InvalidFlag, InvalidName, InvalidNeeds, InvalidText, InvalidVersion, NameTaken, NotEarlier
+from leastlinks.errors import NotGrowing, NotRising, TooMany, UnknownPackage, UnknownRelease
+from leastlinks.names import is_label, is_name, is_version, version_in, version_text
+
+SHOWN_MARK = "+"
+SOLE_WORD = "sole"
+
+
+def is_need(value):
+    """Whether this is a tuple of a name, a version and a bool."""
+    if not isinstance(value, tuple) or len(value) != 3:
+        return False
+    return is_name(value[0]) and is_version(value[1]) and isinstance(value[2], bool)
+
+
+def need_label(need):
+    """The package of a need with the generation of its version."""
+    return (need[0], need[1][0])
+
+
+def first_wrong_need(needs):
+    """The position of the first element that is not a need or has an earlier label, None if there is none."""
+    labels = set()
+    for position, need in enumerate(needs):
+        if not is_need(need) or need_label(need) in labels:
+            return position
+        labels.add(need_label(need))
+    return None
+
+
+def is_kept(old, needs):
+    """Whether one of the needs keeps this old one."""
+    return any([keeps(new, old) for new in needs])
+
+
+def keeps(new, old):
+    """Whether a need has the label of an old one, no smaller step, and is shown if the old one is."""
+    return need_label(new) == need_label(old) and new[1][1] >= old[1][1] and (new[2] or not old[2])
+
+
+def need_text(need):
+    """The package, a slash and the version, and a mark if the need is shown."""
+    mark = SHOWN_MARK if need[2] else ""
+    return f"{need[0]}/{version_text(need[1])}{mark}"
+
+
+def need_in(text):
+    """The need with this text, None if there is none."""
+    is_shown = text.endswith(SHOWN_MARK)
+    package, _, number = text.removesuffix(SHOWN_MARK).partition("/")
+    version = version_in(number)
+    if not is_name(package) or version is None:
+        return None
+    return (package, version, is_shown)
+
+
+def package_line(package, sole):
+    """The line of a package in the text of a registry."""
+    words = ["package", package] + ([SOLE_WORD] if sole else [])
+    return " ".join(words) + "\n"
+
+
+def release_line(package, version, needs):
+    """The line of a release with these needs, as listed, in the text of a registry."""
+    words = ["release", package, version_text(version)] + [need_text(need) for need in needs]
+    return " ".join(words) + "\n"
+
+
+def release_parts(words):
+    """The package, version and needs of a release with these words in its line, None if no line has them."""
+    if len(words) < 2:
+        return None
+    version = version_in(words[1])
+    needs = [need_in(word) for word in words[2:]]
+    if version is None or None in needs:
+        return None
+    labels = [need_label(need) for need in needs]
+    if labels != sorted(set(labels)):
+        return None
+    return (words[0], version, needs)
+
+
+class Registry:
+    """Packages in the sequence in which they were declared, and their releases."""
+
+    MOST_PACKAGES = 10
+    MOST_RELEASES = 40
+    MOST_NEEDS = 6
+
+    def __init__(self):
+        self._packages = []
+        self._soles = {}
+        # From the tuple (package, version) to the tuple of the needs, as listed.
+        self._needs = {}
+
+    @classmethod
+    def of(cls, **packages):
+        """A registry without releases; each keyword is a package, and its value says whether it is sole."""
+        registry = cls()
+        for package in packages:
+            registry.declare(package, sole=packages[package])
+        return registry
+
+    @classmethod
+    def read(cls, text):
+        """The registry with this text. Raises InvalidText."""
+        if not isinstance(text, str):
+            raise InvalidText(0)
+        registry = cls()
+        lines = text.split("\n")
+        for number, line in enumerate(lines[:-1], start=1):
+            if not registry._takes_line(line.split(" ")):
+                raise InvalidText(number)
+        # What follows the last line feed is a line without one.
+        if lines[-1] != "":
+            raise InvalidText(len(lines))
+        return registry
+
+    def clone(self):
+        """An independent copy."""
+        result = Registry()
+        result._packages = list(self._packages)
+        result._soles = dict(self._soles)
+        result._needs = {release: self._needs[release] for release in self._needs}
+        return result
+
+    def declare(self, package, *, sole=False):
+        """Add a package at the end."""
+        if not is_name(package):
+            raise InvalidName(package)
+        if not isinstance(sole, bool):
+            raise InvalidFlag(sole)
+        if package in self._soles:
+            raise NameTaken(package)
+        if len(self._packages) >= self.MOST_PACKAGES:
+            raise TooMany("packages", self.MOST_PACKAGES)
+        self._packages.append(package)
+        self._soles[package] = sole
+
+    def publish(self, package, version, needs=()):
+        """Add a release with these needs, in any sequence."""
+        self._check_release(package, version, needs)
+        self._add_release(package, version, needs)
+
+    def packages(self):
+        """The packages, in sequence."""
+        return list(self._packages)
+
+    def is_sole(self, package):
+        """Whether this package is sole."""
+        if not self.has_package(package):
+            raise UnknownPackage(package)
+        return self._soles[package]
+
+    def versions(self, package):
+        """The sorted versions of the releases of this package."""
+        if not self.has_package(package):
+            raise UnknownPackage(package)
+        return sorted([version for owner, version in self._needs if owner == package])
+
+    def has_package(self, value):
+        """Whether this is a package of the registry."""
+        return is_name(value) and value in self._soles
+
+    def has_label(self, value):
+        """Whether this is the label of a release."""
+        if not is_label(value):
+            return False
+        return any([value == (package, version[0]) for package, version in self._needs])
+
+    def has_release(self, package, version):
+        """Whether these are the package and the version of a release."""
+        return is_name(package) and is_version(version) and (package, version) in self._needs
+
+    def needs(self, package, version):
+        """The needs of this release, as listed."""
+        if not self.has_release(package, version):
+            raise UnknownRelease(package, version)
+        return list(self._needs[(package, version)])
+
+    def releases(self):
+        """Yield a tuple (package, version) for each release: by packages, then by rising versions."""
+        for package in self.packages():
+            for version in self.versions(package):
+                yield (package, version)
+
+    def __eq__(self, other):
+        # A Library is a Registry by its class, and yet equal to none.
+        if not isinstance(other, Registry) or self.__class__.__name__ != other.__class__.__name__:
+            return False
+        return self._has_same(other)
+
+    def __len__(self):
+        return len(self._needs)
+
+    def __str__(self):
+        return "".join([self._package_text(package) for package in self._packages])
+
+    def __repr__(self):
+        return f"Registry({self._packages!r}, {len(self._needs)})"
+
+    def _has_same(self, other):
+        """Whether the packages in sequence, the sole ones, and the releases with their needs are equal."""
+        return (self._packages, self._soles, self._needs) == (other._packages, other._soles, other._needs)
+
+    def _package_text(self, package):
+        """The line of a package and the lines of its releases."""
+        lines = [release_line(package, version, self._needs[(package, version)]) for version in self.versions(package)]
+        return package_line(package, self._soles[package]) + "".join(lines)
+
+    def _check_release(self, package, version, needs):
+        """Raise what stands against this release."""
+        if not self.has_package(package):
+            raise UnknownPackage(package)
+        if not is_version(version):
+            raise InvalidVersion(version)
+        if not isinstance(needs, (list, tuple)):
+            raise InvalidNeeds(None)
+        position = first_wrong_need(needs)
+        if position is not None:
+            raise InvalidNeeds(position)
+        if len(needs) > self.MOST_NEEDS:
+            raise TooMany("needs", self.MOST_NEEDS)
+        self._check_named(package, needs)
+        self._check_growth(package, version, needs)
+        if len(self._needs) >= self.MOST_RELEASES:
+            raise TooMany("releases", self.MOST_RELEASES)
+
+    def _check_named(self, user, needs):
+        """Raise NotEarlier or UnknownRelease for the first need that names no release that the user may need."""
+        earlier = self._packages[:self._packages.index(user)]
+        for package, version, _ in needs:
+            if package not in earlier:
+                raise NotEarlier(user, package)
+            if not self.has_release(package, version):
+                raise UnknownRelease(package, version)
+
+    def _check_growth(self, package, version, needs):
+        """Raise NotRising or NotGrowing if the last release of the same label forbids this one."""
+        steps = [step for generation, step in self.versions(package) if generation == version[0]]
+        if len(steps) == 0:
+            return
+        if steps[-1] >= version[1]:
+            raise NotRising(package, version)
+        for old in self._needs[(package, (version[0], steps[-1]))]:
+            if not is_kept(old, needs):
+                raise NotGrowing(need_label(old))
+
+    def _add_release(self, package, version, needs):
+        """Store a release that was checked."""
+        # The tuples are copied, so that no caller's own kind of tuple is kept.
+        listed = [(used, tuple(named), is_shown) for used, named, is_shown in sorted(needs, key=need_label)]
+        self._needs[(package, tuple(version))] = tuple(listed)
+
+    def _takes_line(self, words):
+        """Add what the line with these words says, and tell whether a text may go on with it."""
+        if words[0] == "package":
+            return self._takes_package(words[1:])
+        return words[0] == "release" and self._takes_release(words[1:])
+
+    def _takes_package(self, words):
+        """Declare the package that these words say, and tell whether a text may go on with it."""
+        if len(words) == 0 or words[1:] not in ([], [SOLE_WORD]):
+            return False
+        try:
+            self.declare(words[0], sole=len(words) == 2)
+        except (InvalidName, NameTaken, TooMany):
+            return False
+        return True
+
+    def _takes_release(self, words):
+        """Publish the release that these words say, and tell whether a text may go on with it."""
+        parts = release_parts(words)
+        if parts is None or not self._is_next(parts[0], parts[1]):
+            return False
+        package, version, needs = parts
+        try:
+            self.publish(package, version, needs)
+        except (TooMany, NotEarlier, UnknownRelease, NotGrowing):
+            return False
+        return True
+
+    def _is_next(self, package, version):
+        """Whether this package was declared last, and has smaller versions only."""
+        if self._packages[-1:] != [package]:
+            return False
+        return all([earlier < version for earlier in self.versions(package)])
