@@ -11,7 +11,7 @@ FONT, PAGE, SITE = ("font", 1), ("page", 1), ("site", 1)
 
 
 def tangled():
-    """A registry whose package d reaches two releases of one label, and shows and hides in turn."""
+    """A registry whose package d reaches two releases of b/0, by needs that are shown and hidden in turn."""
     registry = Registry.of(a=False, b=False, c=True, d=False)
     registry.publish("a", (0, 0))
     registry.publish("a", (0, 1))
@@ -37,13 +37,14 @@ def random_registry(chance):
 
 
 def chains_by_the_words(registry, package, version, only_shown):
-    """The chains as the document defines them, without an order."""
+    """The chains that a release shows, or sees, as the document defines them, without an order."""
     found = []
     for name, named, is_shown in registry.needs(package, version):
         if is_shown or not only_shown:
             label = (name, named[0])
             found.append((label,))
-            found += [(label,) + chain for chain in chains_by_the_words(registry, name, named, only_shown)]
+            # Behind a named release only what that release shows counts, also for sight.
+            found += [(label,) + chain for chain in chains_by_the_words(registry, name, named, True)]
     return found
 
 
@@ -55,13 +56,13 @@ class ChainsTest(ErrorCase):
         self.assertEqual([False, False], [shows(registry, "site", (1, 0), (FONT,)), sees(registry, "site", (1, 0), (FONT,))])
         self.assertEqual([False, False], [shows(registry, "font", (1, 0), (FONT,)), sees(registry, "font", (1, 0), (FONT,))])
 
-    def test_sight_goes_on_through_hidden_needs(self):
+    def test_behind_a_named_release_only_what_it_shows_is_seen(self):
         registry = tangled()
         c, b, a = ("c", 10), ("b", 0), ("a", 1)
-        self.assertEqual([True, True, True],
-                         [sees(registry, "d", (0, 0), chain) for chain in [(c,), (c, b), (c, b, a)]])
-        self.assertEqual([True, False, False],
-                         [shows(registry, "d", (0, 0), chain) for chain in [(c,), (c, b), (c, b, a)]])
+        # c 10.0 hides its need of b, which d does not see therefore.
+        for function in [sees, shows]:
+            self.assertEqual([True, False, False],
+                             [function(registry, "d", (0, 0), chain) for chain in [(c,), (c, b), (c, b, a)]])
         # The first need is hidden, the second one is shown.
         self.assertEqual([True, False],
                          [sees(registry, "c", (10, 0), (b, a)), shows(registry, "c", (10, 0), (b, a))])
@@ -70,8 +71,10 @@ class ChainsTest(ErrorCase):
         registry = tangled()
         # c 9.0 names b 0.0, which hides a/1; b 0.1, which shows it, does not count.
         self.assertIs(False, shows(registry, "d", (0, 0), (("c", 9), ("b", 0), ("a", 1))))
+        self.assertIs(False, sees(registry, "d", (0, 0), (("c", 9), ("b", 0), ("a", 1))))
         self.assertIs(True, shows(registry, "d", (0, 0), (("c", 9), ("b", 0), ("a", 0))))
-        self.assertIs(True, sees(registry, "d", (0, 0), (("c", 9), ("b", 0), ("a", 1))))
+        self.assertIs(True, sees(registry, "d", (0, 0), (("c", 9), ("b", 0), ("a", 0))))
+        self.assertIs(True, sees(registry, "c", (10, 0), (("b", 0), ("a", 1))))
 
     def test_values_that_are_no_chains(self):
         registry = fonts()
@@ -91,13 +94,17 @@ class ChainsTest(ErrorCase):
         registry = Registry.of(**{name: False for name in names})
         registry.publish("a", (0, 0))
         for used, user in zip(names, names[1:]):
-            registry.publish(user, (0, 0), [(used, (0, 0), used != "a")])
+            registry.publish(user, (0, 0), [(used, (0, 0), used not in ("a", "i"))])
         chain = tuple((name, 0) for name in reversed(names[:-1]))
-        self.assertIs(True, sees(registry, "j", (0, 0), chain))
-        self.assertIs(False, shows(registry, "j", (0, 0), chain))
-        self.assertIs(True, shows(registry, "j", (0, 0), chain[:-1]))
-        self.assertEqual([chain[:count] for count in range(1, 10)], list(seen_chains(registry, "j", (0, 0))))
+        # The need of i is hidden, which only its user j sees; that of a is hidden, which only b sees.
+        self.assertIs(False, sees(registry, "j", (0, 0), chain))
+        self.assertIs(True, sees(registry, "j", (0, 0), chain[:-1]))
+        self.assertIs(False, shows(registry, "j", (0, 0), chain[:1]))
+        self.assertIs(True, shows(registry, "i", (0, 0), chain[1:-1]))
+        self.assertEqual([chain[:count] for count in range(1, 9)], list(seen_chains(registry, "j", (0, 0))))
         self.assertEqual([("b", 0), ("c", 0)], shown_labels(registry, "d", (0, 0)))
+        self.assertEqual([("b", 0), ("c", 0)], seen_labels(registry, "d", (0, 0)))
+        self.assertEqual([("a", 0)], seen_labels(registry, "b", (0, 0)))
 
 
 class LabelsTest(ErrorCase):
@@ -106,6 +113,7 @@ class LabelsTest(ErrorCase):
         a, b, c = [("a", 0), ("a", 1)], [("b", 0)], [("c", 9), ("c", 10)]
         self.assertEqual(a + b + c, seen_labels(registry, "d", (0, 0)))
         self.assertEqual(a[:1] + b + c, shown_labels(registry, "d", (0, 0)))
+        self.assertEqual(a[:1] + b, seen_labels(registry, "c", (9, 0)))
         self.assertEqual(a + b, seen_labels(registry, "c", (10, 0)))
         self.assertEqual([], shown_labels(registry, "c", (10, 0)))
         self.assertEqual(a[:1] + b, shown_labels(registry, "c", (9, 0)))
@@ -158,11 +166,11 @@ def many_chains():
 class SeenChainsTest(ErrorCase):
     def test_the_order_of_the_chains(self):
         chains = [
-            (("a", 1),), (("c", 9),), (("c", 9), ("a", 0)), (("c", 9), ("b", 0)), (("c", 9), ("b", 0), ("a", 0)),
-            (("c", 9), ("b", 0), ("a", 1)), (("c", 10),), (("c", 10), ("b", 0)), (("c", 10), ("b", 0), ("a", 0)),
-            (("c", 10), ("b", 0), ("a", 1)),
+            (("a", 1),), (("c", 9),), (("c", 9), ("b", 0)), (("c", 9), ("b", 0), ("a", 0)), (("c", 10),),
         ]
         self.assertEqual(chains, list(seen_chains(tangled(), "d", (0, 0))))
+        chains = [(("b", 0),), (("b", 0), ("a", 0)), (("b", 0), ("a", 1))]
+        self.assertEqual(chains, list(seen_chains(tangled(), "c", (10, 0))))
         self.assertEqual([], list(seen_chains(tangled(), "a", (0, 0))))
 
     def test_it_raises_when_the_iteration_begins(self):
@@ -170,6 +178,20 @@ class SeenChainsTest(ErrorCase):
             chains = seen_chains(fonts(), package, version)
             self.assert_fails(UnknownRelease, {"package": package, "version": version}, next, chains)
             self.assertEqual([], list(chains))
+
+    def test_hidden_and_shown_needs_in_turn(self):
+        for first, last in [(True, True), (True, False), (False, True), (False, False)]:
+            registry = Registry.of(a=False, b=False, c=False)
+            registry.publish("a", (0, 0))
+            registry.publish("b", (0, 0), [("a", (0, 0), last)])
+            registry.publish("c", (0, 0), [("b", (0, 0), first)])
+            a, b = ("a", 0), ("b", 0)
+            self.assertEqual([(b,), (b, a)] if last else [(b,)], list(seen_chains(registry, "c", (0, 0))))
+            self.assertEqual([a, b] if last else [b], seen_labels(registry, "c", (0, 0)))
+            self.assertIs(last, sees(registry, "c", (0, 0), (b, a)))
+            self.assertIs(first and last, shows(registry, "c", (0, 0), (b, a)))
+            self.assertIs(first, shows(registry, "c", (0, 0), (b,)))
+            self.assertEqual([(a,)], list(seen_chains(registry, "b", (0, 0))))
 
     def test_it_is_a_generator(self):
         chains = seen_chains(fonts(), "site", (1, 0))
