@@ -20,13 +20,13 @@ def need_label(need):
     return (need[0], need[1][0])
 
 
-def first_wrong_need(needs):
-    """The position of the first element that is not a need or has an earlier label, None if there is none."""
-    labels = set()
-    for position, need in enumerate(needs):
-        if not is_need(need) or need_label(need) in labels:
+def first_unfit(listed, is_right, key_of):
+    """The position of the first element that is not right or has the key of an earlier one, None if there is none."""
+    keys = set()
+    for position, element in enumerate(listed):
+        if not is_right(element) or key_of(element) in keys:
             return position
-        labels.add(need_label(need))
+        keys.add(key_of(element))
     return None
 
 
@@ -218,7 +218,7 @@ class Registry:
             raise InvalidVersion(version)
         if not isinstance(needs, (list, tuple)):
             raise InvalidNeeds(None)
-        position = first_wrong_need(needs)
+        position = first_unfit(needs, is_need, need_label)
         if position is not None:
             raise InvalidNeeds(position)
         if len(needs) > self.MOST_NEEDS:

@@ -3,7 +3,7 @@
 import inspect
 import unittest
 
-from leastlinks import names, registry, sight
+from leastlinks import facts, linkages, names, projects, registry, resolving, sight
 
 FUNCTIONS = [
     (names, "is_name", "(value)"), (names, "is_version", "(value)"), (names, "is_label", "(value)"),
@@ -12,14 +12,36 @@ FUNCTIONS = [
     (sight, "shows", "(registry, package, version, chain)"), (sight, "sees", "(registry, package, version, chain)"),
     (sight, "shown_labels", "(registry, package, version)"), (sight, "seen_labels", "(registry, package, version)"),
     (sight, "seen_chains", "(registry, package, version)"),
+    (resolving, "resolve", "(project)"), (resolving, "is_solvable", "(project)"), (resolving, "resolve_all", "(*projects)"),
+    (resolving, "oldest_release", "(project, path)"),
+    (facts, "is_fact", "(project, value)"), (facts, "holds", "(linkage, fact)"),
 ]
-METHODS = [
-    ("__init__", "(self)"), ("clone", "(self)"), ("declare", "(self, package, *, sole=False)"),
-    ("publish", "(self, package, version, needs=())"), ("packages", "(self)"), ("is_sole", "(self, package)"),
-    ("versions", "(self, package)"), ("has_package", "(self, value)"), ("has_label", "(self, value)"),
-    ("has_release", "(self, package, version)"), ("needs", "(self, package, version)"), ("releases", "(self)"),
-    ("__eq__", "(self, other)"), ("__len__", "(self)"), ("__str__", "(self)"), ("__repr__", "(self)"),
+METHODS = {
+    registry.Registry: [
+        ("__init__", "(self)"), ("clone", "(self)"), ("declare", "(self, package, *, sole=False)"),
+        ("publish", "(self, package, version, needs=())"), ("packages", "(self)"), ("is_sole", "(self, package)"),
+        ("versions", "(self, package)"), ("has_package", "(self, value)"), ("has_label", "(self, value)"),
+        ("has_release", "(self, package, version)"), ("needs", "(self, package, version)"), ("releases", "(self)"),
+        ("__eq__", "(self, other)"), ("__len__", "(self)"), ("__str__", "(self)"), ("__repr__", "(self)"),
+    ],
+    projects.Project: [
+        ("__init__", "(self, registry, needs=(), *, locks=())"), ("registry", "(self)"), ("needs", "(self)"), ("locks", "(self)"),
+        ("sees", "(self, chain)"), ("with_need", "(self, package, version)"), ("without_need", "(self, label)"),
+        ("with_locks", "(self, locks)"), ("__eq__", "(self, other)"), ("__len__", "(self)"), ("__repr__", "(self)"),
+    ],
+    linkages.Linkage: [
+        ("__init__", "(self, project, rows)"), ("project", "(self)"), ("rows", "(self)"), ("copies", "(self)"),
+        ("has_path", "(self, value)"), ("first_path", "(self, path)"), ("release", "(self, path)"), ("links", "(self, path)"),
+        ("are_copies", "(self, path, other)"), ("seen", "(self, path)"), ("paths", "(self)"), ("sight_conflict", "(self)"),
+        ("sole_conflict", "(self)"), ("lock_conflict", "(self)"), ("__eq__", "(self, other)"), ("__len__", "(self)"),
+        ("__repr__", "(self)"),
+    ],
+}
+VALUES = [
+    (names, "MOST_LABELS", 10), (registry.Registry, "MOST_PACKAGES", 10), (registry.Registry, "MOST_RELEASES", 40),
+    (registry.Registry, "MOST_NEEDS", 6), (projects.Project, "MOST_LOCKS", 400), (linkages.Linkage, "MOST_COPIES", 400),
 ]
+GENERATORS = [registry.Registry.releases, sight.seen_chains, linkages.Linkage.paths]
 
 
 class InterfaceTest(unittest.TestCase):
@@ -31,16 +53,27 @@ class InterfaceTest(unittest.TestCase):
             self.assertEqual(arguments, str(inspect.signature(function)))
 
     def test_methods_are_defined_in_the_class(self):
-        self.assertEqual(("leastlinks.registry", (object,)), (registry.Registry.__module__, registry.Registry.__bases__))
-        for name, arguments in METHODS:
-            self.assertEqual(arguments, str(inspect.signature(vars(registry.Registry)[name])))
+        for listed, methods in METHODS.items():
+            for name, arguments in methods:
+                self.assertEqual(arguments, str(inspect.signature(vars(listed)[name])))
         for name, arguments in [("read", "(text)"), ("of", "(**packages)")]:
             self.assertIsInstance(vars(registry.Registry)[name], classmethod)
             self.assertEqual(arguments, str(inspect.signature(getattr(registry.Registry, name))))
 
+    def test_classes_are_defined_in_their_files(self):
+        for listed, module in [(registry.Registry, registry), (projects.Project, projects), (linkages.Linkage, linkages)]:
+            self.assertEqual((module.__name__, (object,)), (listed.__module__, listed.__bases__))
+
+    def test_values(self):
+        for place, name, value in VALUES:
+            self.assertEqual(value, vars(place)[name])
+
+    def test_properties(self):
+        self.assertIsInstance(vars(linkages.Linkage)["is_solution"], property)
+
     def test_generators(self):
-        self.assertTrue(inspect.isgeneratorfunction(registry.Registry.releases))
-        self.assertTrue(inspect.isgeneratorfunction(sight.seen_chains))
+        for generator in GENERATORS:
+            self.assertTrue(inspect.isgeneratorfunction(generator))
 
 
 if __name__ == "__main__":

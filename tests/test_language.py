@@ -20,6 +20,9 @@ STATEMENTS = (ast.Import, ast.Global, ast.AsyncFunctionDef, ast.AsyncFor, ast.As
 BARRED_NAMES = """register mro elements open input law version_info with_traceback add_note attrgetter breakpoint builtins
 compile copyright credits delattr dir eval exec exit gc getattr globals hasattr help id importlib license locals methodcaller os
 quit setattr vars sys""".split()
+BARRED_ATTRIBUTES = """items keys values pop update append clear extend insert remove reverse setdefault sort args encode
+decode hex fromhex format format_map mro as_integer_ratio bit_count conjugate from_bytes is_integer to_bytes""".split()
+MODIFYING = "append clear extend insert pop remove reverse setdefault update add discard".split()
 BARRED_WORDS = """type typing typing_extensions enum Enum IntEnum StrEnum Flag IntFlag Generic Protocol ABC ABCMeta namedtuple
 NamedTuple TypedDict TYPE_CHECKING abstractmethod dataclass overload contextmanager""".split()
 
@@ -57,6 +60,23 @@ def docstrings(text):
         if node.body and isinstance(node.body[0], ast.Expr) and isinstance(node.body[0].value, ast.Constant):
             found.append(node.body[0].value)
     return found
+
+
+def own_nodes(function):
+    """The nodes of a function that do not belong to a function nested in it."""
+    for node in ast.iter_child_nodes(function):
+        if not isinstance(node, (ast.FunctionDef, ast.Lambda)):
+            yield node
+            yield from own_nodes(node)
+
+
+def changed_in(loop):
+    """What the body of a loop assigns an item of, deletes an item of, or calls a method on that modifies it."""
+    for node in ast.walk(loop):
+        if isinstance(node, ast.Subscript) and isinstance(node.ctx, (ast.Store, ast.Del)):
+            yield node.value
+        if isinstance(node, ast.Call) and isinstance(node.func, ast.Attribute) and node.func.attr in MODIFYING:
+            yield node.func.value
 
 
 class LanguageTest(unittest.TestCase):
@@ -136,6 +156,41 @@ class LanguageTest(unittest.TestCase):
             for node in nodes(text, ast.Call):
                 if isinstance(node.func, ast.Attribute):
                     self.assertIn(node.func.attr, methods)
+
+    def test_generators(self):
+        functions = [node for text in sources().values() for node in nodes(text, ast.FunctionDef)]
+        made = [node.name for node in functions if any(isinstance(each, (ast.Yield, ast.YieldFrom)) for each in own_nodes(node))]
+        names = [node.name for node in functions]
+        for text in sources().values():
+            self.assertEqual([], nodes(text, ast.GeneratorExp))
+            for node in nodes(text, ast.Attribute):
+                if isinstance(node.ctx, ast.Store):
+                    self.assertNotIn(node.attr, made)
+        for name in made:
+            self.assertEqual(1, names.count(name), name)
+            self.assertNotIn(name, METHODS)
+
+    def test_attributes_and_methods(self):
+        texts = "\n".join(sources().values())
+        functions = nodes(texts, ast.ClassDef)
+        methods = [node.name for each in functions for node in each.body if isinstance(node, ast.FunctionDef)]
+        stored = {node.attr for node in nodes(texts, ast.Attribute) if isinstance(node.ctx, ast.Store)}
+        self.assertEqual(set(), stored & set(methods))
+        self.assertEqual(set(), stored & set(BARRED_ATTRIBUTES))
+
+    def test_lambdas(self):
+        for text in sources().values():
+            lines = [node.lineno for node in nodes(text, ast.Lambda)]
+            self.assertEqual(sorted(set(lines)), sorted(lines))
+
+    def test_loops_modify_nothing_that_they_iterate_over(self):
+        for text in sources().values():
+            for loop in nodes(text, ast.For):
+                over = loop.iter
+                if isinstance(over, ast.Call) and isinstance(over.func, ast.Name) and over.func.id in ("enumerate", "reversed"):
+                    over = over.args[0]
+                if isinstance(over, (ast.Name, ast.Attribute)):
+                    self.assertEqual([], [each for each in changed_in(loop) if ast.unparse(each) == ast.unparse(over)])
 
     def test_words(self):
         for text in sources().values():
