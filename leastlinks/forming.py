@@ -6,7 +6,7 @@ is just which of its slots lead to one copy.
 """
 
 from leastlinks.errors import TooMany
-from leastlinks.linkages import Linkage
+from leastlinks.linkages import Linkage, place_at
 from leastlinks.registry import need_label
 from leastlinks.sight import shown_needs
 
@@ -25,7 +25,7 @@ class Forming:
         self._locks = project.locks()
         # Each of these has one element for each copy.
         self._needs = []
-        self._awaited = []
+        self._expected = []
         self.made = []
         self.firsts = []
         self.targets = []
@@ -55,29 +55,24 @@ class Forming:
 
     def copy_at(self, path):
         """The number of the copy to which this path leads, None if it leads to none."""
-        copy = 0
-        for label in path:
-            copy = self.targets[copy].get(label)
-            if copy is None:
-                return None
-        return copy
+        return place_at(self.targets, path)
 
     def _add_copy(self, release, first, source, needs):
         """Add a copy with what its release must have its step for, and note what it sees by its needs."""
         copy = len(self.made)
         self._needs.append(needs)
-        self._awaited.append({})
+        self._expected.append({})
         self.made.append(release)
         self.firsts.append(first)
         self.targets.append({})
         self.sources.append(source)
         for need in needs:
-            self._await(copy, need, copy, ())
+            self._expect(copy, need, copy, ())
 
-    def _await(self, viewer, need, user, chain):
+    def _expect(self, viewer, need, user, chain):
         """Note that a copy will see, by a chain and this need behind it, what the user's link leads to."""
         label = need_label(need)
-        self._awaited[viewer].setdefault(label, []).append((need[1], (user, label), chain + (label,)))
+        self._expected[viewer].setdefault(label, []).append((need[1], (user, label), chain + (label,)))
 
     def _form(self, package):
         """Form the copies of a package, or note its clash. Raises TooMany."""
@@ -118,11 +113,11 @@ class Forming:
     def _sight_bonds(self, package, slots):
         """From each slot to the tuples (other slot, reason) of those that lead to its copy by sight."""
         bonds = {slot: [] for slot in slots}
-        for viewer, awaited in enumerate(self._awaited):
-            for label in awaited:
+        for viewer, expected in enumerate(self._expected):
+            for label in expected:
                 if label[0] == package:
-                    _, slot, chain = awaited[label][0]
-                    for _, other, far in awaited[label][1:]:
+                    _, slot, chain = expected[label][0]
+                    for _, other, far in expected[label][1:]:
                         bonds[slot].append((other, (viewer, far, chain)))
                         bonds[other].append((slot, (viewer, chain, far)))
         return bonds
@@ -171,12 +166,13 @@ class Forming:
     def _look_on(self, package):
         """Note what each copy sees behind the copies of a package that it sees."""
         for viewer in range(len(self.made)):
-            for label in [label for label in self._awaited[viewer] if label[0] == package]:
+            labels = [each for each in self._expected[viewer] if each[0] == package]
+            for label in labels:
                 # A later release shows all that an earlier one does, so the latest named one is enough.
-                named, slot, chain = max(self._awaited[viewer][label])
+                named, slot, chain = max(self._expected[viewer][label])
                 seen = self.targets[slot[0]][slot[1]]
                 for need in shown_needs(self._registry, package, named):
-                    self._await(viewer, need, seen, chain)
+                    self._expect(viewer, need, seen, chain)
 
 
 def formed(project):

@@ -50,6 +50,16 @@ def is_target(rows, need, position):
     return (package, version[0]) == need_label(need) and version[1] >= need[1][1]
 
 
+def place_at(links, path):
+    """The position to which a path leads from the first one of these dicts of links, None if it leads to none."""
+    place = 0
+    for label in path:
+        place = links[place].get(label)
+        if place is None:
+            return None
+    return place
+
+
 def first_paths(rows):
     """From the position of each plain row to which a path leads to the first such path, in sorted order of these."""
     firsts = {}
@@ -195,8 +205,8 @@ class Linkage:
         return len(self._firsts[1:])
 
     def __repr__(self):
-        versions = [release[1] for release in self._releases[1:]]
-        return f"Linkage({list(zip(self._firsts[1:], versions))!r})"
+        pairs = [(first, release[1]) for first, release in zip(self._firsts[1:], self._releases[1:])]
+        return f"Linkage({pairs!r})"
 
     def _take_rows(self, rows):
         """Store what plain rows say, the copies by their first paths, so that equal linkages store the same."""
@@ -215,14 +225,7 @@ class Linkage:
 
     def _copy_at(self, value):
         """The number of the copy to which this path leads, None for a value that is no path of the linkage."""
-        if not is_path(value):
-            return None
-        copy = 0
-        for label in value:
-            copy = self._links[copy].get(label)
-            if copy is None:
-                return None
-        return copy
+        return place_at(self._links, value) if is_path(value) else None
 
     def _known_copy(self, value):
         """The number of the copy to which this path leads. Raises UnknownPath."""

@@ -11,9 +11,14 @@ DIGITS = "0123456789"
 MAIN_TEXT = "-"
 
 
+def is_integer(value):
+    """Whether this is an int that is not a bool."""
+    return isinstance(value, int) and not isinstance(value, bool)
+
+
 def is_count(value):
     """Whether this is an integer that is at least 0."""
-    return isinstance(value, int) and not isinstance(value, bool) and value >= 0
+    return is_integer(value) and value >= 0
 
 
 def is_name(value):

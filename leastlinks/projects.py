@@ -1,8 +1,8 @@
 """Projects: a registry, the needs of a main program, and locks."""
 
-from leastlinks.errors import InvalidLocks, InvalidNeeds, NoNeed, TooMany, UnknownRelease
+from leastlinks.errors import InvalidLocks, NoNeed, TooMany, UnknownRelease
 from leastlinks.names import is_label, is_name, is_path, is_version
-from leastlinks.registry import Registry, first_unfit, need_label
+from leastlinks.registry import check_needs, first_unfit, need_label
 from leastlinks.sight import is_led_by
 
 
@@ -95,13 +95,7 @@ class Project:
 
     def _check_needs(self, needs):
         """Raise what stands against these needs."""
-        if not isinstance(needs, (list, tuple)):
-            raise InvalidNeeds(None)
-        position = first_unfit(needs, is_main_need, need_label)
-        if position is not None:
-            raise InvalidNeeds(position)
-        if len(needs) > Registry.MOST_NEEDS:
-            raise TooMany("needs", Registry.MOST_NEEDS)
+        check_needs(needs, is_main_need)
         for package, version in needs:
             if not self._registry.has_release(package, version):
                 raise UnknownRelease(package, version)

@@ -30,6 +30,17 @@ def first_unfit(listed, is_right, key_of):
     return None
 
 
+def check_needs(needs, is_right):
+    """Raise InvalidNeeds or TooMany for needs that are not a few right ones with different labels."""
+    if not isinstance(needs, (list, tuple)):
+        raise InvalidNeeds(None)
+    position = first_unfit(needs, is_right, need_label)
+    if position is not None:
+        raise InvalidNeeds(position)
+    if len(needs) > Registry.MOST_NEEDS:
+        raise TooMany("needs", Registry.MOST_NEEDS)
+
+
 def is_kept(old, needs):
     """Whether one of the needs keeps this old one."""
     return any([keeps(new, old) for new in needs])
@@ -216,13 +227,7 @@ class Registry:
             raise UnknownPackage(package)
         if not is_version(version):
             raise InvalidVersion(version)
-        if not isinstance(needs, (list, tuple)):
-            raise InvalidNeeds(None)
-        position = first_unfit(needs, is_need, need_label)
-        if position is not None:
-            raise InvalidNeeds(position)
-        if len(needs) > self.MOST_NEEDS:
-            raise TooMany("needs", self.MOST_NEEDS)
+        check_needs(needs, is_need)
         self._check_named(package, needs)
         self._check_growth(package, version, needs)
         if len(self._needs) >= self.MOST_RELEASES:

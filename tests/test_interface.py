@@ -3,7 +3,7 @@
 import inspect
 import unittest
 
-from leastlinks import facts, linkages, names, projects, registry, resolving, sight
+from leastlinks import code, comparing, deriving, facts, judging, linkages, names, projects, registry, resolving, sight
 
 FUNCTIONS = [
     (names, "is_name", "(value)"), (names, "is_version", "(value)"), (names, "is_label", "(value)"),
@@ -15,6 +15,13 @@ FUNCTIONS = [
     (resolving, "resolve", "(project)"), (resolving, "is_solvable", "(project)"), (resolving, "resolve_all", "(*projects)"),
     (resolving, "oldest_release", "(project, path)"),
     (facts, "is_fact", "(project, value)"), (facts, "holds", "(linkage, fact)"),
+    (judging, "is_derivation", "(project, value)"), (judging, "first_wrong", "(project, rows)"),
+    (judging, "needed_rows", "(project, rows)"),
+    (deriving, "derive", "(project, fact)"), (deriving, "can_derive", "(project, fact)"),
+    (comparing, "are_joinable", "(linkage, path, other)"), (comparing, "joined", "(linkage)"),
+    (comparing, "is_below", "(one, other)"), (comparing, "changes", "(old, new)"),
+    (code, "is_kind", "(value)"), (code, "is_expression", "(value)"), (code, "is_function", "(value)"),
+    (code, "calls_in", "(expression)"),
 ]
 METHODS = {
     registry.Registry: [
@@ -40,8 +47,10 @@ METHODS = {
 VALUES = [
     (names, "MOST_LABELS", 10), (registry.Registry, "MOST_PACKAGES", 10), (registry.Registry, "MOST_RELEASES", 40),
     (registry.Registry, "MOST_NEEDS", 6), (projects.Project, "MOST_LOCKS", 400), (linkages.Linkage, "MOST_COPIES", 400),
+    (code, "OWN", "own"), (code, "MOST_DEPTH", 5), (code, "MOST_PARTS", 30), (code, "MOST_PARAMETERS", 4),
+    (judging, "RULES", ("main", "need", "less", "lock", "sight", "sole", "below", "transfer", "turn", "join", "absurd")),
 ]
-GENERATORS = [registry.Registry.releases, sight.seen_chains, linkages.Linkage.paths]
+GENERATORS = [registry.Registry.releases, sight.seen_chains, linkages.Linkage.paths, code.calls_in]
 
 
 class InterfaceTest(unittest.TestCase):

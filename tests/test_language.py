@@ -53,6 +53,11 @@ def local_names(text):
     return names
 
 
+def functions_above(text, line):
+    """The functions at the module level of a file that are defined above a line."""
+    return [node.name for node in ast.parse(text).body if isinstance(node, ast.FunctionDef) and node.lineno < line]
+
+
 def docstrings(text):
     """The nodes of the docstrings of a file."""
     found = []
@@ -121,11 +126,25 @@ class LanguageTest(unittest.TestCase):
                 self.assertIsInstance(node, (ast.ImportFrom, ast.FunctionDef, ast.ClassDef, ast.Assign))
                 if isinstance(node, ast.Assign):
                     self.assertEqual(1, len(node.targets))
-                    ast.literal_eval(node.value)
+                    self.assert_plain(node.value, functions_above(text, node.lineno))
             names = [node.name for node in ast.parse(text).body if isinstance(node, (ast.FunctionDef, ast.ClassDef))]
             names += [alias.name for node in nodes(text, ast.ImportFrom) for alias in node.names]
             names += [node.targets[0].id for node in ast.parse(text).body if isinstance(node, ast.Assign)]
             self.assertEqual(sorted(set(names)), sorted(names))
+
+    def assert_plain(self, value, functions):
+        """A plain value, or a tuple, list or dict of such and of functions."""
+        parts = [value]
+        if isinstance(value, (ast.Tuple, ast.List)):
+            parts = value.elts
+        if isinstance(value, ast.Dict):
+            parts = value.keys + value.values
+        for part in parts:
+            if not isinstance(part, ast.Name) or part is value:
+                ast.literal_eval(part)
+                self.assertFalse(part is not value and isinstance(part, (ast.List, ast.Dict)))
+            else:
+                self.assertIn(part.id, functions)
 
     def test_statements_and_values(self):
         for text in sources().values():

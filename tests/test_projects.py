@@ -162,6 +162,10 @@ class WrongLocksTest(ErrorCase):
             self.assert_wrong(0, [value])
             self.assert_wrong(1, (LOCK, value, None))
 
+    def test_a_version_of_another_generation(self):
+        for path, version in [((("a", 0),), (1, 0)), ((("b", 0), ("a", 3)), (0, 0)), ((("a", 3), ("b", 0)), (3, 0))]:
+            self.assert_fails(InvalidLocks, {"position": 0}, Project, wide(), [], locks=[(path, version)])
+
     def test_elements_with_an_earlier_path(self):
         self.assert_wrong(1, [LOCK, LOCK])
         self.assert_wrong(1, [LOCK, ((FONT,), (1, 0))])

@@ -137,7 +137,8 @@ class LocksTest(ErrorCase):
         self.assertEqual([("page", (1, 0)), ("font", (1, 1))], [locked.release(path), locked.release(path + (FONT,))])
 
     def test_locks_of_other_paths_have_no_effect(self):
-        locks = [((FONT,), (1, 1)), ((PAGE,), (1, 1)), ((SITE, FONT), (1, 1)), ((SITE, PAGE, FONT, FONT), (1, 1))]
+        locks = [((FONT,), (1, 1)), ((PAGE,), (1, 1)), ((SITE, FONT), (1, 1)), ((SITE, PAGE, FONT, FONT), (1, 1)),
+                 ((PAGE, FONT, FONT), (1, 1)), ((FONT, SITE, PAGE, PAGE), (1, 1)), ((SITE,) * 10, (1, 0))]
         plain = resolve(Project(fonts(), [("site", (1, 0))]))
         self.assertEqual(plain, resolve(Project(fonts(), [("site", (1, 0))], locks=locks)))
 
