@@ -87,3 +87,8 @@ def inner_parts(expression):
 def count_of(expression):
     """How many expressions are in an expression, itself included."""
     return 1 + sum([count_of(part) for part in inner_parts(expression)])
+
+
+def plain_code(value):
+    """The same kind, expression or function in plain tuples, so that no caller's own kind of tuple is kept."""
+    return tuple([plain_code(part) for part in value]) if isinstance(value, tuple) else value

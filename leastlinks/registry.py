@@ -1,10 +1,13 @@
 """Registries: packages in sequence, and their releases with the needs of each."""
 
-from leastlinks.errors import InvalidFlag, InvalidName, InvalidNeeds, InvalidText, InvalidVersion, NameTaken, NotEarlier
-from leastlinks.errors import NotGrowing, NotRising, TooMany, UnknownPackage, UnknownRelease
+from leastlinks.errors import InvalidFlag, InvalidFunctions, InvalidName, InvalidNeeds, InvalidText, InvalidVersion
+from leastlinks.errors import LostFunction, NameTaken, NotEarlier, NotGrowing, NotRising, TooMany
+from leastlinks.errors import UnknownPackage, UnknownRelease
 from leastlinks.names import is_label, is_name, is_version, version_in, version_text
 
 SHOWN_MARK = "+"
+PACKAGE_WORD = "package"
+RELEASE_WORD = "release"
 SOLE_WORD = "sole"
 
 
@@ -67,30 +70,86 @@ def need_in(text):
     return (package, version, is_shown)
 
 
-def package_line(package, sole):
-    """The line of a package in the text of a registry."""
-    words = ["package", package] + ([SOLE_WORD] if sole else [])
-    return " ".join(words) + "\n"
+def package_text(package, sole):
+    """What stands in the line of a package behind its first word."""
+    return f"{package} {SOLE_WORD}" if sole else package
 
 
-def release_line(package, version, needs):
-    """The line of a release with these needs, as listed, in the text of a registry."""
-    words = ["release", package, version_text(version)] + [need_text(need) for need in needs]
-    return " ".join(words) + "\n"
+def package_parts(words):
+    """The package with these words in its line, and whether it is sole; None if no line has them."""
+    if len(words) == 0 or not is_name(words[0]) or words[1:] not in ([], [SOLE_WORD]):
+        return None
+    return (words[0], len(words) == 2)
+
+
+def release_text(package, version, needs):
+    """What stands in the line of a release with these needs behind its first word."""
+    return " ".join([package, version_text(version)] + [need_text(need) for need in needs])
 
 
 def release_parts(words):
-    """The package, version and needs of a release with these words in its line, None if no line has them."""
+    """The package, version and needs, in any sequence, with these words in a line; None if no line has them."""
     if len(words) < 2:
         return None
     version = version_in(words[1])
     needs = [need_in(word) for word in words[2:]]
-    if version is None or None in needs:
-        return None
-    labels = [need_label(need) for need in needs]
-    if labels != sorted(set(labels)):
+    if not is_name(words[0]) or version is None or None in needs:
         return None
     return (words[0], version, needs)
+
+
+def read_lines(text, takes):
+    """Hand each line of a text to a function that tells whether a text may go on with it. Raises InvalidText."""
+    if not isinstance(text, str):
+        raise InvalidText(0)
+    lines = text.split("\n")
+    for number, line in enumerate(lines[:-1], start=1):
+        if not takes(line):
+            raise InvalidText(number)
+    # What follows the last line feed is a line without one.
+    if lines[-1] != "":
+        raise InvalidText(len(lines))
+
+
+def takes_line(registry, line):
+    """Add what a line says to a registry, and tell whether a text may go on with it."""
+    word, *words = line.split(" ")
+    if word == PACKAGE_WORD:
+        return takes_package(registry, words)
+    return word == RELEASE_WORD and takes_release(registry, release_parts(words))
+
+
+def takes_package(registry, words):
+    """Declare the package that these words say, and tell whether a text may go on with it."""
+    parts = package_parts(words)
+    if parts is None:
+        return False
+    package, sole = parts
+    try:
+        registry.declare(package, sole=sole)
+    except (NameTaken, TooMany):
+        return False
+    return True
+
+
+def takes_release(registry, parts):
+    """Publish the release with these parts, None for no parts, and tell whether a text may go on with it."""
+    if parts is None or not is_next(registry, parts):
+        return False
+    try:
+        registry.publish(*parts)
+    except (TooMany, NotEarlier, UnknownRelease, NotGrowing, InvalidFunctions, LostFunction):
+        return False
+    return True
+
+
+def is_next(registry, parts):
+    """Whether the package was declared last, has smaller versions only, and the needs are as listed."""
+    package, version, needs = parts[:3]
+    if registry.packages()[-1:] != [package]:
+        return False
+    labels = [need_label(need) for need in needs]
+    return labels == sorted(set(labels)) and all([earlier < version for earlier in registry.versions(package)])
 
 
 class Registry:
@@ -117,24 +176,14 @@ class Registry:
     @classmethod
     def read(cls, text):
         """The registry with this text. Raises InvalidText."""
-        if not isinstance(text, str):
-            raise InvalidText(0)
         registry = cls()
-        lines = text.split("\n")
-        for number, line in enumerate(lines[:-1], start=1):
-            if not registry._takes_line(line.split(" ")):
-                raise InvalidText(number)
-        # What follows the last line feed is a line without one.
-        if lines[-1] != "":
-            raise InvalidText(len(lines))
+        read_lines(text, lambda line: takes_line(registry, line))
         return registry
 
     def clone(self):
         """An independent copy."""
         result = Registry()
-        result._packages = list(self._packages)
-        result._soles = dict(self._soles)
-        result._needs = {release: self._needs[release] for release in self._needs}
+        result._take_over(self)
         return result
 
     def declare(self, package, *, sole=False):
@@ -207,7 +256,7 @@ class Registry:
         return len(self._needs)
 
     def __str__(self):
-        return "".join([self._package_text(package) for package in self._packages])
+        return "".join([self._lines_of(package) for package in self._packages])
 
     def __repr__(self):
         return f"Registry({self._packages!r}, {len(self._needs)})"
@@ -216,10 +265,17 @@ class Registry:
         """Whether the packages in sequence, the sole ones, and the releases with their needs are equal."""
         return (self._packages, self._soles, self._needs) == (other._packages, other._soles, other._needs)
 
-    def _package_text(self, package):
+    def _take_over(self, other):
+        """Have the packages, releases and needs of another registry, and no others."""
+        self._packages = list(other._packages)
+        self._soles = dict(other._soles)
+        self._needs = {release: other._needs[release] for release in other._needs}
+
+    def _lines_of(self, package):
         """The line of a package and the lines of its releases."""
-        lines = [release_line(package, version, self._needs[(package, version)]) for version in self.versions(package)]
-        return package_line(package, self._soles[package]) + "".join(lines)
+        texts = [release_text(package, version, self._needs[(package, version)]) for version in self.versions(package)]
+        lines = [f"{RELEASE_WORD} {text}\n" for text in texts]
+        return f"{PACKAGE_WORD} {package_text(package, self._soles[package])}\n" + "".join(lines)
 
     def _check_release(self, package, version, needs):
         """Raise what stands against this release."""
@@ -244,51 +300,22 @@ class Registry:
 
     def _check_growth(self, package, version, needs):
         """Raise NotRising or NotGrowing if the last release of the same label forbids this one."""
-        steps = [step for generation, step in self.versions(package) if generation == version[0]]
-        if len(steps) == 0:
+        before = self._last_of_label(package, version[0])
+        if before is None:
             return
-        if steps[-1] >= version[1]:
+        if before[1] >= version[1]:
             raise NotRising(package, version)
-        for old in self._needs[(package, (version[0], steps[-1]))]:
+        for old in self._needs[(package, before)]:
             if not is_kept(old, needs):
                 raise NotGrowing(need_label(old))
+
+    def _last_of_label(self, package, generation):
+        """The version of the release of this label that was published last, None if there is none."""
+        versions = [version for version in self.versions(package) if version[0] == generation]
+        return versions[-1] if len(versions) > 0 else None
 
     def _add_release(self, package, version, needs):
         """Store a release that was checked."""
         # The tuples are copied, so that no caller's own kind of tuple is kept.
         listed = [(used, tuple(named), is_shown) for used, named, is_shown in sorted(needs, key=need_label)]
         self._needs[(package, tuple(version))] = tuple(listed)
-
-    def _takes_line(self, words):
-        """Add what the line with these words says, and tell whether a text may go on with it."""
-        if words[0] == "package":
-            return self._takes_package(words[1:])
-        return words[0] == "release" and self._takes_release(words[1:])
-
-    def _takes_package(self, words):
-        """Declare the package that these words say, and tell whether a text may go on with it."""
-        if len(words) == 0 or words[1:] not in ([], [SOLE_WORD]):
-            return False
-        try:
-            self.declare(words[0], sole=len(words) == 2)
-        except (InvalidName, NameTaken, TooMany):
-            return False
-        return True
-
-    def _takes_release(self, words):
-        """Publish the release that these words say, and tell whether a text may go on with it."""
-        parts = release_parts(words)
-        if parts is None or not self._is_next(parts[0], parts[1]):
-            return False
-        package, version, needs = parts
-        try:
-            self.publish(package, version, needs)
-        except (TooMany, NotEarlier, UnknownRelease, NotGrowing):
-            return False
-        return True
-
-    def _is_next(self, package, version):
-        """Whether this package was declared last, and has smaller versions only."""
-        if self._packages[-1:] != [package]:
-            return False
-        return all([earlier < version for earlier in self.versions(package)])

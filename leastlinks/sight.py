@@ -19,12 +19,12 @@ def sees(registry, package, version, chain):
 
 def shown_labels(registry, package, version):
     """The sorted labels that the release shows. Raises UnknownRelease."""
-    return _last_labels(registry, shown_needs(registry, package, version))
+    return last_labels(registry, shown_needs(registry, package, version))
 
 
 def seen_labels(registry, package, version):
     """The sorted labels that the release sees. Raises UnknownRelease."""
-    return _last_labels(registry, registry.needs(package, version))
+    return last_labels(registry, registry.needs(package, version))
 
 
 def seen_chains(registry, package, version):
@@ -69,7 +69,7 @@ def _led_chains(registry, needs):
             yield (label,) + chain
 
 
-def _last_labels(registry, needs):
+def last_labels(registry, needs):
     """The sorted last labels of the chains that begin with one of these needs and go on along shown ones."""
     # Each named release is followed once, because there can be far more chains than releases.
     waiting = list(needs)

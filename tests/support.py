@@ -2,6 +2,7 @@
 
 import unittest
 
+from leastlinks.library import Library
 from leastlinks.registry import Registry
 
 
@@ -56,6 +57,8 @@ def everything(registry):
     for package in registry.packages():
         rows.append(repr((package, registry.is_sole(package), registry.versions(package))))
         rows += [repr(registry.needs(package, version)) for version in registry.versions(package)]
+        if isinstance(registry, Library):
+            rows += [repr(registry.functions(package, version)) for version in registry.versions(package)]
     return rows
 
 

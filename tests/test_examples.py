@@ -32,12 +32,12 @@ class ExamplesTest(unittest.TestCase):
             self.assertEqual(answer, answer_to(beginning + lines), lines)
 
     def test_stages_whose_examples_begin_with_the_same_lines(self):
-        for stage, count in [(1, 13), (5, 5)]:
+        for stage, count in [(1, 13), (5, 5), (8, 5)]:
             beginning, *sessions = sessions_of(stage)
             self.assert_answers(beginning, sessions, count)
 
     def test_other_stages(self):
-        for stage, count in [(2, 7), (3, 5), (4, 8), (6, 2)]:
+        for stage, count in [(2, 7), (3, 5), (4, 8), (6, 8), (7, 5)]:
             self.assert_answers([], sessions_of(stage), count)
 
 

@@ -3,7 +3,8 @@
 import inspect
 import unittest
 
-from leastlinks import code, comparing, deriving, facts, judging, linkages, names, projects, registry, resolving, sight
+from leastlinks import code, comparing, deriving, facts, judging, library, linkages
+from leastlinks import mixing, names, projects, registry, resolving, running, sight, workspaces
 
 FUNCTIONS = [
     (names, "is_name", "(value)"), (names, "is_version", "(value)"), (names, "is_label", "(value)"),
@@ -22,6 +23,11 @@ FUNCTIONS = [
     (comparing, "is_below", "(one, other)"), (comparing, "changes", "(old, new)"),
     (code, "is_kind", "(value)"), (code, "is_expression", "(value)"), (code, "is_function", "(value)"),
     (code, "calls_in", "(expression)"),
+    (library, "kind_in", "(library, package, version, expression, *, parameters=())"),
+    (library, "main_kind", "(project, expression)"),
+    (running, "run", "(linkage, expression, *, limit=1000)"), (running, "calls", "(linkage, expression, *, limit=1000)"),
+    (running, "stray_calls", "(linkage, expression, *, limit=1000)"),
+    (mixing, "mixing", "(linkage)"), (mixing, "is_mixing", "(linkage, value)"),
 ]
 METHODS = {
     registry.Registry: [
@@ -43,14 +49,40 @@ METHODS = {
         ("sole_conflict", "(self)"), ("lock_conflict", "(self)"), ("__eq__", "(self, other)"), ("__len__", "(self)"),
         ("__repr__", "(self)"),
     ],
+    library.Library: [
+        ("__init__", "(self)"), ("clone", "(self)"), ("registry", "(self)"),
+        ("publish", "(self, package, version, needs=(), functions=())"), ("functions", "(self, package, version)"),
+        ("signature", "(self, package, version, name)"), ("__eq__", "(self, other)"), ("__repr__", "(self)"),
+    ],
+    workspaces.Workspace: [
+        ("__init__", "(self, library)"), ("clone", "(self)"), ("library", "(self)"), ("project", "(self)"), ("edits", "(self)"),
+        ("declare", "(self, package, *, sole=False)"), ("publish", "(self, package, version, needs=(), functions=())"),
+        ("add_need", "(self, package, version)"), ("raise_need", "(self, package, version)"), ("drop_need", "(self, label)"),
+        ("unlock", "(self)"), ("lock", "(self)"), ("undo", "(self, count=1)"), ("why", "(self, path)"),
+        ("why_same", "(self, path, other)"), ("run", "(self, expression)"), ("__eq__", "(self, other)"), ("__len__", "(self)"),
+        ("__repr__", "(self)"),
+    ],
 }
+CLASS_METHODS = [
+    (registry.Registry, "read", "(text)"), (registry.Registry, "of", "(**packages)"), (library.Library, "over", "(registry)"),
+]
+# Each class with its file and its base class.
+CLASSES = [
+    (registry.Registry, registry, object), (projects.Project, projects, object), (linkages.Linkage, linkages, object),
+    (library.Library, library, registry.Registry), (workspaces.Workspace, workspaces, object),
+]
+PROPERTIES = [
+    (linkages.Linkage, "is_solution", False), (workspaces.Workspace, "resolution", False),
+    (workspaces.Workspace, "step_limit", True),
+]
 VALUES = [
     (names, "MOST_LABELS", 10), (registry.Registry, "MOST_PACKAGES", 10), (registry.Registry, "MOST_RELEASES", 40),
     (registry.Registry, "MOST_NEEDS", 6), (projects.Project, "MOST_LOCKS", 400), (linkages.Linkage, "MOST_COPIES", 400),
     (code, "OWN", "own"), (code, "MOST_DEPTH", 5), (code, "MOST_PARTS", 30), (code, "MOST_PARAMETERS", 4),
+    (library.Library, "MOST_FUNCTIONS", 4),
     (judging, "RULES", ("main", "need", "less", "lock", "sight", "sole", "below", "transfer", "turn", "join", "absurd")),
 ]
-GENERATORS = [registry.Registry.releases, sight.seen_chains, linkages.Linkage.paths, code.calls_in]
+GENERATORS = [registry.Registry.releases, sight.seen_chains, linkages.Linkage.paths, code.calls_in, running.calls]
 
 
 class InterfaceTest(unittest.TestCase):
@@ -65,20 +97,25 @@ class InterfaceTest(unittest.TestCase):
         for listed, methods in METHODS.items():
             for name, arguments in methods:
                 self.assertEqual(arguments, str(inspect.signature(vars(listed)[name])))
-        for name, arguments in [("read", "(text)"), ("of", "(**packages)")]:
-            self.assertIsInstance(vars(registry.Registry)[name], classmethod)
-            self.assertEqual(arguments, str(inspect.signature(getattr(registry.Registry, name))))
+
+    def test_class_methods(self):
+        for listed, name, arguments in CLASS_METHODS:
+            self.assertIsInstance(vars(listed)[name], classmethod)
+            self.assertEqual(arguments, str(inspect.signature(getattr(listed, name))))
 
     def test_classes_are_defined_in_their_files(self):
-        for listed, module in [(registry.Registry, registry), (projects.Project, projects), (linkages.Linkage, linkages)]:
-            self.assertEqual((module.__name__, (object,)), (listed.__module__, listed.__bases__))
+        for listed, module, base in CLASSES:
+            self.assertIs(listed, vars(module)[listed.__name__])
+            self.assertEqual((module.__name__, (base,)), (listed.__module__, listed.__bases__))
 
     def test_values(self):
         for place, name, value in VALUES:
             self.assertEqual(value, vars(place)[name])
 
     def test_properties(self):
-        self.assertIsInstance(vars(linkages.Linkage)["is_solution"], property)
+        for listed, name, is_assigned in PROPERTIES:
+            self.assertIsInstance(vars(listed)[name], property)
+            self.assertEqual(is_assigned, vars(listed)[name].fset is not None)
 
     def test_generators(self):
         for generator in GENERATORS:

@@ -191,11 +191,17 @@ class LanguageTest(unittest.TestCase):
 
     def test_attributes_and_methods(self):
         texts = "\n".join(sources().values())
-        functions = nodes(texts, ast.ClassDef)
-        methods = [node.name for each in functions for node in each.body if isinstance(node, ast.FunctionDef)]
+        methods = [node for each in nodes(texts, ast.ClassDef) for node in each.body if isinstance(node, ast.FunctionDef)]
+        decorated = [(node.name, [ast.unparse(each) for each in node.decorator_list]) for node in methods]
+        properties = [name for name, decorators in decorated if decorators == ["property"]]
+        setters = [name for name, decorators in decorated if decorators == [f"{name}.setter"]]
+        plain = [name for name, decorators in decorated if decorators not in (["property"], [f"{name}.setter"])]
         stored = {node.attr for node in nodes(texts, ast.Attribute) if isinstance(node.ctx, ast.Store)}
-        self.assertEqual(set(), stored & set(methods))
-        self.assertEqual(set(), stored & set(BARRED_ATTRIBUTES))
+        self.assertEqual(set(), stored & set(plain + BARRED_ATTRIBUTES))
+        # Each class with a property that is assigned has its setter, and nothing else stores an attribute of that name.
+        for name in stored & set(properties):
+            self.assertEqual(properties.count(name), setters.count(name), name)
+        self.assertEqual(set(), set(plain) & set(properties))
 
     def test_lambdas(self):
         for text in sources().values():
