@@ -5,6 +5,7 @@ for code with many calls.
 """
 
 from leastlinks.errors import TooMany
+from leastlinks.histories import save
 from leastlinks.library import Library
 from leastlinks.workspaces import Workspace
 from tests.drawing import chains_of, crowded_registry, drawn_registry
@@ -266,7 +267,7 @@ def whole(workspace):
     """All that a workspace tells, with the kind of each number, as texts."""
     resolution = workspace.resolution
     told = [repr(workspace), repr(workspace.project()), repr(workspace.step_limit), repr(workspace.edits()), repr(len(workspace))]
-    return told + everything(workspace.library()) + [repr(resolution.rows()), repr(resolution.project())]
+    return told + everything(workspace.library()) + [repr(resolution.rows()), repr(resolution.project()), save(workspace)]
 
 
 def drawn_workspace(chance, edits=12):

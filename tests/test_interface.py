@@ -3,7 +3,7 @@
 import inspect
 import unittest
 
-from leastlinks import code, comparing, deriving, facts, judging, library, linkages
+from leastlinks import code, code_texts, comparing, console, deriving, edits, facts, histories, judging, library, linkages
 from leastlinks import mixing, names, projects, registry, resolving, running, sight, workspaces
 
 FUNCTIONS = [
@@ -28,6 +28,11 @@ FUNCTIONS = [
     (running, "run", "(linkage, expression, *, limit=1000)"), (running, "calls", "(linkage, expression, *, limit=1000)"),
     (running, "stray_calls", "(linkage, expression, *, limit=1000)"),
     (mixing, "mixing", "(linkage)"), (mixing, "is_mixing", "(linkage, value)"),
+    (edits, "perform", "(workspace, *edits)"), (edits, "tried", "(workspace, *edits)"),
+    (code_texts, "library_text", "(library)"), (code_texts, "read_library", "(text)"),
+    (code_texts, "expression_text", "(expression)"), (code_texts, "function_text", "(function)"),
+    (code_texts, "read_expression", "(text)"), (code_texts, "read_function", "(text)"),
+    (histories, "save", "(workspace)"), (histories, "load", "(text)"),
 ]
 METHODS = {
     registry.Registry: [
@@ -62,6 +67,10 @@ METHODS = {
         ("why_same", "(self, path, other)"), ("run", "(self, expression)"), ("__eq__", "(self, other)"), ("__len__", "(self)"),
         ("__repr__", "(self)"),
     ],
+    console.Console: [
+        ("__init__", "(self, library)"), ("workspace", "(self)"), ("execute", "(self, command)"), ("run", "(self, commands)"),
+        ("log", "(self)"),
+    ],
 }
 CLASS_METHODS = [
     (registry.Registry, "read", "(text)"), (registry.Registry, "of", "(**packages)"), (library.Library, "over", "(registry)"),
@@ -69,7 +78,7 @@ CLASS_METHODS = [
 # Each class with its file and its base class.
 CLASSES = [
     (registry.Registry, registry, object), (projects.Project, projects, object), (linkages.Linkage, linkages, object),
-    (library.Library, library, registry.Registry), (workspaces.Workspace, workspaces, object),
+    (library.Library, library, registry.Registry), (workspaces.Workspace, workspaces, object), (console.Console, console, object),
 ]
 PROPERTIES = [
     (linkages.Linkage, "is_solution", False), (workspaces.Workspace, "resolution", False),
